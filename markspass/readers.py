@@ -1,0 +1,76 @@
+"""Manners and readers: what they are, and what a reader answers along a row."""
+
+from markspass.errors import BadManner, BadReader
+from markspass.questions import MOST_STATES
+from markspass.questions import are_numbers, check_question, is_number, is_tuple_of, names_of
+from markspass.rows import CLOSING, check_row
+
+NAMED = "named"
+BLIND = "blind"
+
+
+def check_manner(value):
+    """Raise BadManner if the value is no manner."""
+    if not isinstance(value, str) or value not in (NAMED, BLIND):
+        raise BadManner("a manner is one of the words named and blind")
+
+
+def is_pair(value, last):
+    """Whether the value is a pair of a state up to the last and an answer."""
+    return is_tuple_of(value, 2, 2) and is_number(value[0], 0, last) and is_number(value[1], 0, 1)
+
+
+def are_pairs(value, names, last):
+    """Whether the value has a pair of a next state and an answer for each name."""
+    return is_tuple_of(value, names, names) and all(is_pair(pair, last) for pair in value)
+
+
+def are_opens(value, names):
+    """Whether the value may stand as the opens of a reader."""
+    if not is_tuple_of(value, 1, MOST_STATES):
+        return False
+    last = len(value) - 1
+    return all(are_pairs(pairs, names, last) for pairs in value)
+
+
+def are_closes(value, states, ways):
+    """Whether the value may stand as the closes of a reader, so many ways from each state."""
+    last = states - 1
+    return is_tuple_of(value, states, states) and all(are_numbers(nexts, ways, last) for nexts in value)
+
+
+def check_reader(names, manner, value):
+    """Raise BadReader if the value is no reader of so many names by a manner."""
+    if not is_tuple_of(value, 2, 2):
+        raise BadReader("reader")
+    opens, closes = value
+    if not are_opens(opens, names):
+        raise BadReader("opens")
+    if not are_closes(closes, len(opens), names if manner == NAMED else 1):
+        raise BadReader("closes")
+
+
+def behind_closing(manner, reader, state, name):
+    """The state of a reader behind the closing of a mark of that name."""
+    nexts = reader[1][state]
+    return nexts[name] if manner == NAMED else nexts[0]
+
+
+def reading(question, manner, reader, row):
+    """The answers that a reader gives along a row, opening by opening."""
+    check_question(question)
+    check_manner(manner)
+    check_reader(names_of(question), manner, reader)
+    check_row(names_of(question), row)
+    opens = reader[0]
+    state = 0
+    pile = []
+    given = []
+    for tag in row:
+        if tag == CLOSING:
+            state = behind_closing(manner, reader, state, pile.pop())
+        else:
+            pile.append(tag)
+            state, told = opens[state][tag]
+            given.append(told)
+    return tuple(given)

@@ -1,0 +1,126 @@
+"""Values that several tests use: questions, and values of every other kind."""
+
+OWN = (((0, 1), (0, 1)), (0, 1))
+ABOVE = (((0, 1), (1, 1)), (0, 1))
+EVEN = (((0, 1), (1, 0)), (0, 1))
+ONE_NAME = (((1,), (0,)), (0, 1))
+THREE_NAMES = (((0, 1, 2), (1, 2, 0), (2, 0, 1)), (0, 1, 1))
+SIX_STATES = (((1, 0), (2, 0), (3, 0), (4, 0), (5, 0), (5, 0)), (0, 0, 0, 0, 0, 1))
+
+# None of these is a tuple; an integer, True and False stand among them.
+NO_TUPLES = (
+    None, True, False, 0, 1, -1, 2, 10 ** 30, "", "a", "named", "question",
+    [], [0], [0, 1], [[0, 1], [0, 1]], [((0, 1), (0, 1)), (0, 1)], {}, {0: 1}, {"a": (0, 1)},
+)
+
+# None of these is a number from 0 on.
+NO_NUMBERS = (None, True, False, -1, -2, "", "0", "1", (), (0,), [], [0], {}, {0: 0}, -10 ** 30)
+
+# More levels than Python's own calls may have.
+DEEP = 50000
+
+
+def nested(levels):
+    """A forest of so many marks, each within the one before it."""
+    forest = ()
+    for _ in range(levels):
+        forest = ((0, forest),)
+    return forest
+
+
+def chained(states):
+    """A question of one name and so many states, one behind another, the last being answered 1."""
+    steps = tuple((min(state + 1, states - 1),) for state in range(states))
+    return steps, tuple(int(state == states - 1) for state in range(states))
+
+
+def question_values():
+    """Pairs of a value that is no question and the part that names what is wrong."""
+    pairs = [(value, "question") for value in NO_TUPLES]
+    pairs += [(value, "question") for value in ((), (((0, 1),),), (((0, 1),), (0,), (0,)))]
+    pairs += [((value, (0, 1)), "steps") for value in NO_TUPLES]
+    row = (0, 1)
+    pairs += [
+        (((), ()), "steps"),
+        (chained(7), "steps"),
+        (((row,) * 7, (0,) * 7), "steps"),
+        ((((), ()), (0, 1)), "steps"),
+        ((((0,) * 4,), (0,)), "steps"),
+        ((((0,), (0, 1)), (0, 1)), "steps"),
+        ((((0, 1), (0,)), (0, 1)), "steps"),
+        ((((0, 1), (0, 1, 1)), (0, 1)), "steps"),
+        ((((0, 2), (0, 1)), (0, 1)), "steps"),
+        ((((0, 1), (0, 2)), (0, 1)), "steps"),
+        (((row, [0, 1]), row), "steps"),
+        ((([0, 1], row), row), "steps"),
+        (((row, None), row), "steps"),
+        (("ab", row), "steps"),
+        ((((2,), (0,)), (0, 7)), "steps"),
+        (((), None), "steps"),
+        ((None, None), "steps"),
+    ]
+    pairs += [((((0, 1), (0, value)), (0, 1)), "steps") for value in NO_NUMBERS]
+    pairs += [((((value, 1), (0, 1)), (0, 1)), "steps") for value in NO_NUMBERS]
+    pairs += [(((row, row), value), "answers") for value in NO_TUPLES]
+    pairs += [(((row, row), value), "answers") for value in ((), (0,), (0, 1, 1), (0, 2), (2, 0))]
+    pairs += [(((row, row), (0, value)), "answers") for value in NO_NUMBERS]
+    pairs += [(((row, row), (value, 1)), "answers") for value in NO_NUMBERS]
+    return pairs
+
+
+def path_values(names):
+    """Values that are no path of so many names."""
+    values = list(NO_TUPLES) + [(value,) for value in NO_NUMBERS] + [(0, value) for value in NO_NUMBERS]
+    return values + [(names,), (0,) * 1999 + (names,), (0,) * 2001, (0, (0,)), ((0, 0),)]
+
+
+def row_values(names):
+    """Pairs of a value that is no row of so many names and the place of what is wrong."""
+    pairs = [(value, None) for value in NO_TUPLES]
+    pairs += [((0,) * 2001, None), ((0, -1) * 1000 + (0,), None), ((names,) * 2001, None), ((-1,) * 2001, None)]
+    pairs += [((value,), 0) for value in NO_NUMBERS]
+    pairs += [((0, 0, value, -1), 2) for value in NO_NUMBERS if value != -1]
+    pairs += [((0, 0, -1, -1, value), 4) for value in NO_NUMBERS]
+    pairs += [
+        ((names,), 0),
+        ((0, 0, names), 2),
+        ((-1,), 0),
+        ((-1, names), 0),
+        ((0, -1, -1), 2),
+        ((0, -1, -1, 0), 2),
+        ((0, -1, -1, names), 2),
+        ((names, -1, -1), 0),
+        ((0, -1, names, -1), 2),
+        ((0,) * 1999 + (names,), 1999),
+        ((0, -1) * 999 + (-1, 0), 1998),
+    ]
+    return pairs
+
+
+def forest_values(names):
+    """Values that are no forest of so many names."""
+    values = list(NO_TUPLES)
+    values += [(value,) for value in NO_TUPLES]
+    values += [((value, ()),) for value in NO_NUMBERS + (names,)]
+    values += [((0, ((value, ()),)),) for value in NO_NUMBERS + (names,)]
+    values += [((0, ()), (value, ())) for value in NO_NUMBERS + (names,)]
+    values += [((0, value),) for value in NO_TUPLES]
+    values += [((0, ((0, value),)),) for value in NO_TUPLES]
+    values += [((0, ()), (0, ()), value) for value in NO_TUPLES]
+    values += [
+        (0, ()),
+        ((),),
+        ((0,),),
+        ((0, (), ()),),
+        ((0, ()), [0, ()]),
+        nested(41),
+        nested(DEEP),
+        ((0, ()),) + nested(41),
+        ((0, ()),) * 1001,
+        ((0, ((0, ()),)),) * 501,
+        ((0, ((0, ()),) * 1000),),
+    ]
+    doubled = ((0, ()),)
+    for _ in range(39):
+        doubled = ((0, doubled), (0, doubled))
+    return values + [doubled]

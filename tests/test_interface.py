@@ -1,0 +1,82 @@
+"""The interface: its names, its arguments, and its examples, word for word."""
+
+import ast
+import importlib
+import inspect
+import unittest
+
+ARGUMENTS = {
+    "questions": {
+        "answer": ["question", "path"], "least_question": ["question"], "below_lots": ["question"],
+    },
+    "rows": {
+        "left_open": ["question", "row"], "answers_due": ["question", "row"], "row_of": ["forest"],
+        "forest_of": ["row"], "told_forest": ["question", "forest"],
+    },
+    "readers": {
+        "reading": ["question", "manner", "reader", "row"],
+    },
+}
+
+QUESTIONS = """\
+>>> from markspass.questions import answer, below_lots, least_question
+>>> own, above, even = (((0, 1), (0, 1)), (0, 1)), (((0, 1), (1, 1)), (0, 1)), (((0, 1), (1, 0)), (0, 1))
+>>> [answer(even, (1, 0, 1)), answer(above, (1, 0)), least_question((((1, 2), (1, 2), (1, 2)), (0, 0, 1))) == own, \
+below_lots(own), below_lots(even)]
+[0, 1, True, (0, 0), (0, 1)]
+>>> answer(own, (2,))
+raises BadPath()
+"""
+
+ROWS = """\
+>>> from markspass.rows import answers_due, forest_of, left_open, row_of, told_forest
+>>> above = (((0, 1), (1, 1)), (0, 1))
+>>> [answers_due(above, (0, 1, 0, -1, -1, 0)), left_open(above, (0, 1, 0, -1, -1, 0)), \
+forest_of((0, 1, -1, -1, 1, -1)), row_of(((0, ((1, ()),)),)), told_forest(above, ((1, ((0, ()),)),))]
+[(0, 1, 1, 0), (0, 0), ((0, ((1, ()),)), (1, ())), (0, 1, -1, -1), ((1, 1, ((0, 1, ()),)),)]
+>>> answers_due(above, (0, -1, -1))
+raises BadRow(place=2)
+"""
+
+READERS = """\
+>>> from markspass.readers import reading
+>>> above, plain = (((0, 1), (1, 1)), (0, 1)), ((((0, 0), (0, 1)),), ((0, 0),))
+>>> reading(above, "named", plain, (1, 0, -1, 1))
+(1, 0, 1)
+>>> reading(above, "blind", plain, ())
+raises BadReader(part='closes')
+"""
+
+
+def shown(line, names):
+    """What an example's line shows: its value, or the error that it raises; None for a statement."""
+    if not isinstance(ast.parse(line).body[0], ast.Expr):
+        exec(line, names)
+        return None
+    try:
+        return repr(eval(line, names))
+    except ValueError as error:
+        fields = ", ".join(f"{name}={worth!r}" for name, worth in vars(error).items())
+        return f"raises {error.__class__.__name__}({fields})"
+
+
+class Interface(unittest.TestCase):
+    def test_names_and_arguments(self):
+        for file, functions in ARGUMENTS.items():
+            module = importlib.import_module(f"markspass.{file}")
+            for name, arguments in functions.items():
+                with self.subTest(name):
+                    function = getattr(module, name)
+                    self.assertEqual(function.__module__, f"markspass.{file}")
+                    self.assertEqual(list(inspect.signature(function).parameters), arguments)
+
+    def test_examples(self):
+        for text in (QUESTIONS, ROWS, READERS):
+            names = {}
+            lines = text.splitlines()
+            for place, line in enumerate(lines):
+                if line.startswith(">>> "):
+                    got = shown(line[4:], names)
+                    if got is not None:
+                        with self.subTest(line):
+                            self.assertEqual(got, lines[place + 1])
