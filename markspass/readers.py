@@ -11,7 +11,7 @@ BLIND = "blind"
 
 def check_manner(value):
     """Raise BadManner if the value is no manner."""
-    if not isinstance(value, str) or value not in (NAMED, BLIND):
+    if value not in (NAMED, BLIND):
         raise BadManner("a manner is one of the words named and blind")
 
 
