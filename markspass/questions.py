@@ -47,21 +47,35 @@ def names_of(question):
     return len(question[0][0])
 
 
+def is_path(names, value, least, most):
+    """Whether the value is a path, of so many names to choose from, of least to most names."""
+    return is_tuple_of(value, least, most) and are_numbers(value, len(value), names - 1)
+
+
 def check_path(names, value):
     """Raise BadPath if the value is no path of so many names."""
-    if not is_tuple_of(value, 0, MOST_LENGTH) or not are_numbers(value, len(value), names - 1):
+    if not is_path(names, value, 0, MOST_LENGTH):
         raise BadPath("a path is a tuple of at most 2000 names that the question has")
+
+
+def state_behind(question, state, path):
+    """The state to which the names of a path lead from a state."""
+    steps = question[0]
+    for name in path:
+        state = steps[state][name]
+    return state
+
+
+def answer_behind(question, state, path):
+    """The answer of the state to which the names of a path lead from a state."""
+    return question[1][state_behind(question, state, path)]
 
 
 def answer(question, path):
     """The answer, 0 or 1, of the state to which the names of the path lead."""
     check_question(question)
     check_path(names_of(question), path)
-    steps, answers = question
-    state = 0
-    for name in path:
-        state = steps[state][name]
-    return answers[state]
+    return answer_behind(question, 0, path)
 
 
 def numbered(keys):
@@ -89,13 +103,12 @@ def alike_lots(question):
     return lots
 
 
-def least_question(question):
-    """The question with the fewest states that answers all paths alike."""
-    check_question(question)
+def least_from(question, start):
+    """The question with the fewest states that answers all paths as they are answered from a state."""
     steps, answers = question
     lots = alike_lots(question)
-    chosen = [0]
-    numbers = {lots[0]: 0}
+    chosen = [start]
+    numbers = {lots[start]: 0}
     least_steps = []
     while len(least_steps) < len(chosen):
         nexts = steps[chosen[len(least_steps)]]
@@ -107,9 +120,19 @@ def least_question(question):
     return tuple(least_steps), tuple([answers[state] for state in chosen])
 
 
-def below_lots(question):
-    """A number for each state of the least question, alike just for those alike below."""
-    steps, _ = least_question(question)
+def least_question(question):
+    """The question with the fewest states that answers all paths alike."""
+    check_question(question)
+    return least_from(question, 0)
+
+
+def lots_of_least(least):
+    """A number for each state of a least question, alike just for those alike below."""
     # No two states of a least question answer all paths alike, so two are
     # alike below only if each name leads from both to the same state.
-    return numbered(steps)
+    return numbered(least[0])
+
+
+def below_lots(question):
+    """A number for each state of the least question, alike just for those alike below."""
+    return lots_of_least(least_question(question))

@@ -39,15 +39,35 @@ def are_closes(value, states, ways):
     return is_tuple_of(value, states, states) and all(are_numbers(nexts, ways, last) for nexts in value)
 
 
-def check_reader(names, manner, value):
-    """Raise BadReader if the value is no reader of so many names by a manner."""
+def ways_to_close(names, manner):
+    """How many ways a reader has to go on from a state at a closing."""
+    return names if manner == NAMED else 1
+
+
+def wrong_part(names, manner, value):
+    """The word that names what is wrong with a reader of so many names by a manner, None if nothing is."""
     if not is_tuple_of(value, 2, 2):
-        raise BadReader("reader")
+        return "reader"
     opens, closes = value
     if not are_opens(opens, names):
-        raise BadReader("opens")
-    if not are_closes(closes, len(opens), names if manner == NAMED else 1):
-        raise BadReader("closes")
+        return "opens"
+    if not are_closes(closes, len(opens), ways_to_close(names, manner)):
+        return "closes"
+    return None
+
+
+def check_reader(names, manner, value):
+    """Raise BadReader if the value is no reader of so many names by a manner."""
+    part = wrong_part(names, manner, value)
+    if part is not None:
+        raise BadReader(part)
+
+
+def check_reading(question, manner, reader):
+    """Raise the error of the first of these arguments that is wrong."""
+    check_question(question)
+    check_manner(manner)
+    check_reader(names_of(question), manner, reader)
 
 
 def behind_closing(manner, reader, state, name):
@@ -58,9 +78,7 @@ def behind_closing(manner, reader, state, name):
 
 def reading(question, manner, reader, row):
     """The answers that a reader gives along a row, opening by opening."""
-    check_question(question)
-    check_manner(manner)
-    check_reader(names_of(question), manner, reader)
+    check_reading(question, manner, reader)
     check_row(names_of(question), row)
     opens = reader[0]
     state = 0

@@ -20,6 +20,15 @@ def check_row(names, value):
         left += -1 if tag == CLOSING else 1
 
 
+def is_row(names, value):
+    """Whether the value is a row of so many names."""
+    try:
+        check_row(names, value)
+    except BadRow:
+        return False
+    return True
+
+
 def check_document(row):
     """Raise BadRow if a row leaves marks open, or has too many within one another."""
     left = 0

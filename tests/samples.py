@@ -1,4 +1,6 @@
-"""Values that several tests use: questions, and values of every other kind."""
+"""Values that several tests use: questions and readers, also drawn ones, and values of every other kind."""
+
+import random
 
 OWN = (((0, 1), (0, 1)), (0, 1))
 ABOVE = (((0, 1), (1, 1)), (0, 1))
@@ -6,6 +8,21 @@ EVEN = (((0, 1), (1, 0)), (0, 1))
 ONE_NAME = (((1,), (0,)), (0, 1))
 THREE_NAMES = (((0, 1, 2), (1, 2, 0), (2, 0, 1)), (0, 1, 1))
 SIX_STATES = (((1, 0), (2, 0), (3, 0), (4, 0), (5, 0), (5, 0)), (0, 0, 0, 0, 0, 1))
+
+# Neither name leads from two states to one, so no two meet by "named"; by "blind" all of them do.
+RING = (((1, 2), (2, 3), (3, 4), (4, 5), (5, 0), (0, 1)), (0, 0, 0, 0, 0, 1))
+# Its last two states can't be reached.
+UNREACHED = (((0, 1), (1, 1), (2, 3), (3, 0)), (0, 1, 1, 0))
+
+# A reader of six states that errs, where only the answer 0 is due, at no row of less than 93 tags.
+ZERO = (((0, 0, 0),), (0,))
+LATE = (
+    (
+        ((4, 0), (0, 0), (0, 0)), ((4, 0), (3, 0), (4, 0)), ((1, 0), (0, 0), (4, 0)),
+        ((4, 0), (2, 0), (1, 0)), ((4, 0), (4, 0), (4, 0)), ((0, 0), (4, 0), (1, 1)),
+    ),
+    ((5, 4, 1), (2, 2, 4), (3, 4, 3), (3, 1, 0), (4, 4, 4), (3, 0, 2)),
+)
 
 # None of these is a tuple; an integer, True and False stand among them.
 NO_TUPLES = (
@@ -32,6 +49,27 @@ def chained(states):
     """A question of one name and so many states, one behind another, the last being answered 1."""
     steps = tuple((min(state + 1, states - 1),) for state in range(states))
     return steps, tuple(int(state == states - 1) for state in range(states))
+
+
+def drawn_question(draw, states, names):
+    """A question of so many states and names, drawn."""
+    steps = tuple(tuple(draw.randrange(states) for _ in range(names)) for _ in range(states))
+    return steps, tuple(draw.randrange(2) for _ in range(states))
+
+
+def drawn_reader(draw, states, names, manner):
+    """A reader of so many states and names by a manner, drawn."""
+    ways = names if manner == "named" else 1
+    opens = tuple(
+        tuple((draw.randrange(states), draw.randrange(2)) for _ in range(names)) for _ in range(states)
+    )
+    return opens, tuple(tuple(draw.randrange(states) for _ in range(ways)) for _ in range(states))
+
+
+def drawn_questions(seed, many, states=range(1, 7), names=range(1, 4)):
+    """So many questions, drawn, of numbers of states and names that are drawn, too."""
+    draw = random.Random(seed)
+    return [drawn_question(draw, draw.choice(states), draw.choice(names)) for _ in range(many)]
 
 
 def question_values():
@@ -124,3 +162,37 @@ def forest_values(names):
     for _ in range(39):
         doubled = ((0, doubled), (0, doubled))
     return values + [doubled]
+
+
+def reader_values(ways):
+    """Pairs of a value that is no reader of two names, with so many ways at a closing, and its part."""
+    opens = (((0, 0), (1, 1)), ((1, 1), (0, 0)))
+    closes = ((0,) * ways, (1,) * ways)
+    pairs = [(value, "reader") for value in NO_TUPLES]
+    pairs += [(value, "reader") for value in ((), (opens,), (opens, closes, closes))]
+    pairs += [((value, closes), "opens") for value in NO_TUPLES]
+    pairs += [((value, None), "opens") for value in NO_TUPLES]
+    pairs += [(((opens[0], value), closes), "opens") for value in NO_TUPLES]
+    pairs += [(((opens[0], ((0, 0), value)), closes), "opens") for value in NO_TUPLES]
+    pairs += [(((opens[0], ((0, 0), (value, 0))), closes), "opens") for value in NO_NUMBERS + (2,)]
+    pairs += [(((opens[0], ((0, 0), (0, value))), closes), "opens") for value in NO_NUMBERS + (2,)]
+    pairs += [
+        (((), ()), "opens"),
+        ((opens[:1] * 7, closes[:1] * 7), "opens"),
+        ((((((0, 0),)),), ((0,) * ways,)), "opens"),
+        (((((0, 0),),), ((0,) * ways,)), "opens"),
+        (((((0, 0),) * 3,), ((0,) * ways,)), "opens"),
+        (((((0, 0),) * 2, ((0, 0),) * 3), closes), "opens"),
+        ((((),), ((),)), "opens"),
+        (((((0, 0), (0,)),), ((0,) * ways,)), "opens"),
+        (((((0, 0), (0, 0, 0)),), ((0,) * ways,)), "opens"),
+        (((((0, 0), (1, 0)),), ((0,) * ways,)), "opens"),
+        (((((0, 0), (1, 0)),), None), "opens"),
+    ]
+    pairs += [((opens, value), "closes") for value in NO_TUPLES]
+    pairs += [((opens, (closes[0], value)), "closes") for value in NO_TUPLES]
+    pairs += [((opens, (closes[0], (0,) * (ways - 1) + (value,))), "closes") for value in NO_NUMBERS + (2,)]
+    pairs += [((opens, value), "closes") for value in ((), closes[:1], closes + closes[:1])]
+    pairs += [((opens, (closes[0], (0,) * many)), "closes") for many in range(4) if many != ways]
+    pairs += [((opens, ((0,) * many, closes[1])), "closes") for many in range(4) if many != ways]
+    return pairs

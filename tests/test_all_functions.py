@@ -3,15 +3,22 @@
 import copy
 import unittest
 
-from markspass.errors import BadForest, BadManner, BadPath, BadQuestion, BadReader, BadRow
+from markspass.errors import BadForest, BadManner, BadNumber, BadPath, BadQuestion, BadReader, BadRow, BadTrap
+from markspass.errors import BadWord
+from markspass.faults import fault, is_right, shows_fault
+from markspass.joins import both, count_readable, inside, renamed, turned
+from markspass.meetings import can_read, fewest_states, meetings, paper, reader_for, shows_paper, shows_reader
 from markspass.questions import answer, below_lots, least_question
 from markspass.readers import reading
 from markspass.rows import answers_due, forest_of, left_open, row_of, told_forest
-from tests.samples import ABOVE, DEEP, NO_TUPLES, nested
+from markspass.traps import shows_trap, trap, trap_rows
+from tests.samples import ABOVE, DEEP, EVEN, NO_TUPLES, OWN, nested
 
 PLAIN = ((((0, 0), (0, 1)),), ((0, 0),))
 ROW = (0, 1, -1, -1)
 FOREST = ((0, ((1, ()),)),)
+TRAP = ((), (1,), (0,))
+PAPER = ((), (1,), (1,), (1,), (0,))
 
 # Each function with allowed arguments, and for each argument the error for one that is not allowed.
 CALLS = (
@@ -24,7 +31,36 @@ CALLS = (
     (forest_of, (ROW,), (BadRow,)),
     (told_forest, (ABOVE, FOREST), (BadQuestion, BadForest)),
     (reading, (ABOVE, "named", PLAIN, ROW), (BadQuestion, BadManner, BadReader, BadRow)),
+    (is_right, (ABOVE, "named", PLAIN), (BadQuestion, BadManner, BadReader)),
+    (fault, (ABOVE, "named", PLAIN), (BadQuestion, BadManner, BadReader)),
+    (shows_fault, (ABOVE, "named", PLAIN, (1, 0)), (BadQuestion, BadManner, BadReader)),
+    (meetings, (ABOVE, "named"), (BadQuestion, BadManner)),
+    (can_read, (ABOVE, "named"), (BadQuestion, BadManner)),
+    (fewest_states, (EVEN, "named"), (BadQuestion, BadManner)),
+    (reader_for, (EVEN, "named"), (BadQuestion, BadManner)),
+    (shows_reader, (OWN, "named", PLAIN), (BadQuestion, BadManner)),
+    (paper, (ABOVE, "named"), (BadQuestion, BadManner)),
+    (shows_paper, (ABOVE, "named", PAPER), (BadQuestion, BadManner)),
+    (trap, (ABOVE,), (BadQuestion,)),
+    (shows_trap, (ABOVE, TRAP), (BadQuestion,)),
+    (trap_rows, (ABOVE, TRAP, 2), (BadQuestion, BadTrap, BadNumber)),
+    (both, (ABOVE, EVEN, "and"), (BadQuestion, BadQuestion, BadWord)),
+    (turned, (ABOVE,), (BadQuestion,)),
+    (inside, (ABOVE, 1), (BadQuestion, BadNumber)),
+    (renamed, (ABOVE, (1, 0)), (BadQuestion, BadNumber)),
+    (count_readable, (2, 2), (BadNumber, BadNumber)),
 )
+# These answer yes or no.
+YES_OR_NO = (is_right, shows_fault, can_read, shows_reader, shows_paper, shows_trap)
+# These have an answer for any value of their last argument.
+SHOWING = tuple((function, things) for function, things, _ in CALLS if function.__name__.startswith("shows"))
+
+
+def is_allowed(thing, value):
+    """Whether a value that is none of the wrong kinds may stand in place of an argument."""
+    if isinstance(thing, int):
+        return isinstance(value, int) and not isinstance(value, bool) and value < 10
+    return value == thing
 
 
 def put(things, place, value):
@@ -37,7 +73,7 @@ class AllFunctions(unittest.TestCase):
         for function, things, wrongs in CALLS:
             for place, wrong in enumerate(wrongs):
                 for value in NO_TUPLES:
-                    if value != things[place]:
+                    if not is_allowed(things[place], value):
                         with self.subTest(function.__name__, place=place, value=value), self.assertRaises(wrong):
                             function(*put(things, place, value))
 
@@ -52,7 +88,7 @@ class AllFunctions(unittest.TestCase):
     def test_lists_for_tuples(self):
         for function, things, wrongs in CALLS:
             for place, wrong in enumerate(wrongs):
-                if wrong is not BadManner:
+                if isinstance(things[place], tuple):
                     with self.subTest(function.__name__, place=place), self.assertRaises(wrong):
                         function(*put(things, place, list(things[place])))
 
@@ -60,7 +96,7 @@ class AllFunctions(unittest.TestCase):
         for function, things, wrongs in CALLS:
             for first, wrong in enumerate(wrongs):
                 for second in range(first + 1, len(wrongs)):
-                    for value in (None, [], True, 7):
+                    for value in (None, [], True, -7):
                         with self.subTest(function.__name__, first=first, second=second):
                             with self.assertRaises(wrong):
                                 function(*put(put(things, first, value), second, value))
@@ -82,6 +118,22 @@ class AllFunctions(unittest.TestCase):
             self.assertEqual(function(*copy.deepcopy(things)), first)
             self.assertEqual(function(*things), first)
 
+    def test_any_value_may_be_shown(self):
+        deep = nested(DEEP)
+        values = NO_TUPLES + (deep, (deep, deep), (deep,) * 3, (deep,) * 5, [deep], {0: deep}, ((),), ((), (), ()))
+        for function, things in SHOWING:
+            self.assertIs(function(*things), True)
+            for place, value in enumerate(values):
+                with self.subTest(function.__name__, place=place):
+                    self.assertIs(function(*things[:-1], value), False)
+
+    def test_no_shown_value_is_modified(self):
+        for function, things in SHOWING:
+            for value in ([[[0, 1], [1, 1]], [0, 1]], [1, 0], [[], [1], [0]], {0: [0, 1]}, ([1], {"a": [0]})):
+                kept = copy.deepcopy(value)
+                self.assertIs(function(*things[:-1], value), False)
+                self.assertEqual(value, kept)
+
     def test_answers_are_integers_and_tuples_of_them(self):
         def is_plain(value):
             if isinstance(value, tuple):
@@ -89,4 +141,7 @@ class AllFunctions(unittest.TestCase):
             return isinstance(value, int) and not isinstance(value, bool)
 
         for function, things, _ in CALLS:
-            self.assertTrue(is_plain(function(*things)), function.__name__)
+            if function in YES_OR_NO:
+                self.assertIn(repr(function(*things)), ("True", "False"))
+            else:
+                self.assertTrue(is_plain(function(*things)), function.__name__)

@@ -16,6 +16,23 @@ ARGUMENTS = {
     "readers": {
         "reading": ["question", "manner", "reader", "row"],
     },
+    "faults": {
+        "is_right": ["question", "manner", "reader"], "fault": ["question", "manner", "reader"],
+        "shows_fault": ["question", "manner", "reader", "value"],
+    },
+    "meetings": {
+        "meetings": ["question", "manner"], "can_read": ["question", "manner"],
+        "fewest_states": ["question", "manner"], "reader_for": ["question", "manner"],
+        "shows_reader": ["question", "manner", "value"], "paper": ["question", "manner"],
+        "shows_paper": ["question", "manner", "value"],
+    },
+    "traps": {
+        "trap": ["question"], "shows_trap": ["question", "value"], "trap_rows": ["question", "value", "states"],
+    },
+    "joins": {
+        "both": ["one", "other", "word"], "turned": ["question"], "inside": ["question", "name"],
+        "renamed": ["question", "names"], "count_readable": ["states", "names"],
+    },
 }
 
 QUESTIONS = """\
@@ -47,6 +64,45 @@ READERS = """\
 raises BadReader(part='closes')
 """
 
+FAULTS = """\
+>>> from markspass.faults import fault, is_right, shows_fault
+>>> above, plain = (((0, 1), (1, 1)), (0, 1)), ((((0, 0), (0, 1)),), ((0, 0),))
+>>> [fault(above, "named", plain), is_right((((0, 1), (0, 1)), (0, 1)), "named", plain), \
+shows_fault(above, "named", plain, (1,))]
+[(1, 0), True, False]
+"""
+
+MEETINGS = """\
+>>> from markspass.meetings import can_read, fewest_states, meetings, paper, reader_for, shows_paper, shows_reader
+>>> own, above, even = (((0, 1), (0, 1)), (0, 1)), (((0, 1), (1, 1)), (0, 1)), (((0, 1), (1, 0)), (0, 1))
+>>> [meetings(above, "named"), [can_read(even, manner) for manner in ["named", "blind"]], \
+[fewest_states(question, "named") for question in [own, above, even]], reader_for(own, "blind")]
+[((0, 1),), [True, False], [1, None, 2], ((((0, 0), (0, 1)),), ((0,),))]
+>>> [paper(even, "named"), shows_paper(above, "named", ((), (1,), (1,), (1,), (0,))), \
+shows_paper(even, "blind", ((), (1,), (0,), (1,), (0,))), shows_reader(above, "named", None)]
+[None, True, True, True]
+>>> can_read(even, "open")
+raises BadManner()
+"""
+
+TRAPS = """\
+>>> from markspass.traps import shows_trap, trap, trap_rows
+>>> above, even = (((0, 1), (1, 1)), (0, 1)), (((0, 1), (1, 0)), (0, 1))
+>>> [shows_trap(above, ((), (1,), (0,))), trap(even), trap_rows(above, ((), (1,), (0,)), 2)[0], \
+len(trap_rows(above, ((), (1,), (0,)), 2)[1])]
+[True, None, (1, 1, -1, -1, 0), 65]
+>>> trap_rows(even, ((), (1,), (0,)), 2)
+raises BadTrap()
+"""
+
+JOINS = """\
+>>> from markspass.joins import both, count_readable, inside, renamed, turned
+>>> own, above, even = (((0, 1), (0, 1)), (0, 1)), (((0, 1), (1, 1)), (0, 1)), (((0, 1), (1, 0)), (0, 1))
+>>> [both(own, above, "and") == own, both(above, above, "one"), turned(own), inside(above, 1), \
+renamed(above, (1,)), count_readable(1, 2)]
+[True, (((0, 0),), (0,)), (((0, 1), (0, 1)), (1, 0)), (((0, 0),), (1,)), (((1,), (1,)), (0, 1)), (2, 2, 2)]
+"""
+
 
 def shown(line, names):
     """What an example's line shows: its value, or the error that it raises; None for a statement."""
@@ -71,7 +127,7 @@ class Interface(unittest.TestCase):
                     self.assertEqual(list(inspect.signature(function).parameters), arguments)
 
     def test_examples(self):
-        for text in (QUESTIONS, ROWS, READERS):
+        for text in (QUESTIONS, ROWS, READERS, FAULTS, MEETINGS, TRAPS, JOINS):
             names = {}
             lines = text.splitlines()
             for place, line in enumerate(lines):

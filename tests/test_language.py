@@ -185,3 +185,38 @@ class Words(unittest.TestCase):
             text = path.read_text(encoding="utf-8")
             with self.subTest(path.name):
                 self.assertIsNone(re.search(r"\b(time|random|secrets|os|sys|pathlib|socket)\.", text))
+
+    def test_names_of_the_library_are_only_called(self):
+        library = set().union(*LIBRARY.values())
+        for path in FILES:
+            tree = tree_of(path)
+            called = [node.func for node in ast.walk(tree) if isinstance(node, ast.Call)]
+            for node in ast.walk(tree):
+                if isinstance(node, ast.Name) and node.id in library - {"deque"}:
+                    with self.subTest(path.name, line=node.lineno):
+                        self.assertIn(node, called)
+
+    def test_generator_expressions_stand_directly_in_certain_calls(self):
+        takers = set("list tuple dict sorted sum min max any all join".split())
+        for path in FILES:
+            tree = tree_of(path)
+            calls = [node for node in ast.walk(tree) if isinstance(node, ast.Call)]
+            inside = [
+                argument for node in calls for argument in node.args
+                if getattr(node.func, "id", getattr(node.func, "attr", None)) in takers
+            ]
+            for node in ast.walk(tree):
+                if isinstance(node, ast.GeneratorExp):
+                    with self.subTest(path.name, line=node.lineno):
+                        self.assertIn(node, inside)
+
+    def test_strings(self):
+        for path in FILES:
+            tree = tree_of(path)
+            holders = [node for node in ast.walk(tree) if isinstance(node, (ast.Module, ast.FunctionDef, ast.ClassDef))]
+            docs = [node.body[0].value for node in holders if node.body and isinstance(node.body[0], ast.Expr)]
+            for node in ast.walk(tree):
+                if isinstance(node, ast.Constant) and isinstance(node.value, str) and node not in docs:
+                    with self.subTest(path.name, line=node.lineno):
+                        self.assertNotIn("%", node.value)
+                        self.assertNotRegex(node.value, r"\A__.*__\Z|\._{1,2}\Z")

@@ -1,53 +1,12 @@
 """Points 2 and 4: questions, paths, least questions, states alike below."""
 
 import unittest
-from itertools import product
 
 from markspass.errors import BadPath, BadQuestion
 from markspass.questions import answer, below_lots, least_question
 from tests.samples import ABOVE, EVEN, ONE_NAME, OWN, SIX_STATES, THREE_NAMES
 from tests.samples import chained, path_values, question_values
-
-
-def paths_to(names, longest):
-    """All paths of so many names up to a length, shorter ones first."""
-    return [path for length in range(longest + 1) for path in product(range(names), repeat=length)]
-
-
-def walked(question, state, path):
-    """The state behind a path from a state."""
-    return state if path == () else walked(question, question[0][state][path[0]], path[1:])
-
-
-def told(question, way, paths):
-    """What the question answers to the paths, each with the way ahead of it."""
-    return tuple(question[1][walked(question, 0, way + path)] for path in paths)
-
-
-def least_by_trying(question):
-    """The least question, and its numbers of lots, by what is answered to all short paths."""
-    names, states = len(question[0][0]), len(question[0])
-    paths = paths_to(names, states)
-    ways, tellings = [], []
-    for way in paths_to(names, states - 1):
-        if told(question, way, paths) not in tellings:
-            ways.append(way)
-            tellings.append(told(question, way, paths))
-    steps = tuple(
-        tuple(tellings.index(told(question, way + (name,), paths)) for name in range(names)) for way in ways
-    )
-    belows = [telling[1:] for telling in tellings]
-    firsts = sorted({belows.index(below) for below in belows})
-    lots = tuple(firsts.index(belows.index(below)) for below in belows)
-    return (steps, tuple(telling[0] for telling in tellings)), lots
-
-
-def all_questions(states, names):
-    """All questions of just so many states and names."""
-    rows = list(product(range(states), repeat=names))
-    for steps in product(rows, repeat=states):
-        for answers in product((0, 1), repeat=states):
-            yield steps, answers
+from tests.slow import all_questions, least_by_trying, paths_to, walked
 
 
 class Answer(unittest.TestCase):

@@ -7,7 +7,8 @@ from markspass.errors import BadManner, BadQuestion, BadReader, BadRow
 from markspass.readers import reading
 from markspass.rows import answers_due
 from tests.samples import ABOVE, EVEN, NO_NUMBERS, NO_TUPLES, ONE_NAME, OWN, THREE_NAMES
-from tests.samples import question_values, row_values
+from tests.samples import question_values, reader_values, row_values
+from tests.slow import read_by_looking_back, rows_to
 
 PLAIN = ((((0, 0), (0, 1)),), ((0, 0),))
 PLAIN_BLIND = ((((0, 0), (0, 1)),), ((0,),))
@@ -22,79 +23,6 @@ def turning(states):
     nexts = [(state + 1) % states for state in range(states)]
     opens = tuple(((there, int(there == 0)),) for there in nexts)
     return opens, tuple((there,) for there in nexts)
-
-
-def closings(row):
-    """For each closing, by its place, the name of the mark that is closed."""
-    found = {}
-    for place, tag in enumerate(row):
-        if tag == -1:
-            left = 1
-            at = place
-            while left > 0:
-                at -= 1
-                left += 1 if row[at] == -1 else -1
-            found[place] = row[at]
-    return found
-
-
-def read_by_looking_back(manner, reader, row):
-    """What a reader answers, each closing's mark being looked up in the row."""
-    state, given, closed = 0, [], closings(row)
-    for place, tag in enumerate(row):
-        if tag == -1:
-            state = reader[1][state][closed[place] if manner == "named" else 0]
-        else:
-            given.append(reader[0][state][tag][1])
-            state = reader[0][state][tag][0]
-    return tuple(given)
-
-
-def rows_to(names, longest):
-    """All rows of so many names up to a length."""
-    rows = [()]
-    start = 0
-    for _ in range(longest):
-        ends = rows[start:]
-        start = len(rows)
-        for row in ends:
-            may_close = 2 * row.count(-1) < len(row)
-            rows += [row + (tag,) for tag in range(-1 if may_close else 0, names)]
-    return rows
-
-
-def reader_values(ways):
-    """Pairs of a value that is no reader of two names, with so many ways at a closing, and its part."""
-    opens = (((0, 0), (1, 1)), ((1, 1), (0, 0)))
-    closes = ((0,) * ways, (1,) * ways)
-    pairs = [(value, "reader") for value in NO_TUPLES]
-    pairs += [(value, "reader") for value in ((), (opens,), (opens, closes, closes))]
-    pairs += [((value, closes), "opens") for value in NO_TUPLES]
-    pairs += [((value, None), "opens") for value in NO_TUPLES]
-    pairs += [(((opens[0], value), closes), "opens") for value in NO_TUPLES]
-    pairs += [(((opens[0], ((0, 0), value)), closes), "opens") for value in NO_TUPLES]
-    pairs += [(((opens[0], ((0, 0), (value, 0))), closes), "opens") for value in NO_NUMBERS + (2,)]
-    pairs += [(((opens[0], ((0, 0), (0, value))), closes), "opens") for value in NO_NUMBERS + (2,)]
-    pairs += [
-        (((), ()), "opens"),
-        ((opens[:1] * 7, closes[:1] * 7), "opens"),
-        ((((((0, 0),)),), ((0,) * ways,)), "opens"),
-        (((((0, 0),),), ((0,) * ways,)), "opens"),
-        (((((0, 0),) * 3,), ((0,) * ways,)), "opens"),
-        (((((0, 0),) * 2, ((0, 0),) * 3), closes), "opens"),
-        ((((),), ((),)), "opens"),
-        (((((0, 0), (0,)),), ((0,) * ways,)), "opens"),
-        (((((0, 0), (0, 0, 0)),), ((0,) * ways,)), "opens"),
-        (((((0, 0), (1, 0)),), ((0,) * ways,)), "opens"),
-        (((((0, 0), (1, 0)),), None), "opens"),
-    ]
-    pairs += [((opens, value), "closes") for value in NO_TUPLES]
-    pairs += [((opens, (closes[0], value)), "closes") for value in NO_TUPLES]
-    pairs += [((opens, (closes[0], (0,) * (ways - 1) + (value,))), "closes") for value in NO_NUMBERS + (2,)]
-    pairs += [((opens, value), "closes") for value in ((), closes[:1], closes + closes[:1])]
-    pairs += [((opens, (closes[0], (0,) * many)), "closes") for many in range(4) if many != ways]
-    pairs += [((opens, ((0,) * many, closes[1])), "closes") for many in range(4) if many != ways]
-    return pairs
 
 
 class Reading(unittest.TestCase):

@@ -8,6 +8,7 @@ from markspass.questions import answer
 from markspass.rows import answers_due, forest_of, left_open, row_of, told_forest
 from tests.samples import ABOVE, EVEN, ONE_NAME, OWN, THREE_NAMES
 from tests.samples import forest_values, nested, question_values, row_values
+from tests.slow import path_behind
 
 
 def rows_to(names, longest):
@@ -19,15 +20,6 @@ def rows_to(names, longest):
             if all(depth >= 0 for depth in depths):
                 found.append(tags)
     return found
-
-
-def path_behind(row):
-    """The names left open behind a row, found by taking out marks without anything within."""
-    tags = list(row)
-    while -1 in tags:
-        place = tags.index(-1)
-        del tags[place - 1:place + 1]
-    return tuple(tags)
 
 
 class LeftOpen(unittest.TestCase):
