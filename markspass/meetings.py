@@ -1,10 +1,10 @@
 """States that meet, the readers without a pile that this allows, and the papers that show there is none."""
 
-from markspass.faults import short_fault
 from markspass.questions import MOST_LENGTH
 from markspass.questions import answer_behind, check_question, is_path, is_tuple_of, least_question
 from markspass.questions import lots_of_least, names_of, state_behind
 from markspass.readers import BLIND, NAMED, check_manner, ways_to_close, wrong_part
+from markspass.searches import short_fault
 
 
 def moves_of(names, manner):

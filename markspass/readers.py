@@ -25,9 +25,9 @@ def are_pairs(value, names, last):
     return is_tuple_of(value, names, names) and all(is_pair(pair, last) for pair in value)
 
 
-def are_opens(value, names):
-    """Whether the value may stand as the opens of a reader."""
-    if not is_tuple_of(value, 1, MOST_STATES):
+def are_opens(value, names, most):
+    """Whether the value may stand as the opens of a reader of at most so many states."""
+    if not is_tuple_of(value, 1, most):
         return False
     last = len(value) - 1
     return all(are_pairs(pairs, names, last) for pairs in value)
@@ -44,30 +44,30 @@ def ways_to_close(names, manner):
     return names if manner == NAMED else 1
 
 
-def wrong_part(names, manner, value):
+def wrong_part(names, manner, value, most=MOST_STATES):
     """The word that names what is wrong with a reader of so many names by a manner, None if nothing is."""
     if not is_tuple_of(value, 2, 2):
         return "reader"
     opens, closes = value
-    if not are_opens(opens, names):
+    if not are_opens(opens, names, most):
         return "opens"
     if not are_closes(closes, len(opens), ways_to_close(names, manner)):
         return "closes"
     return None
 
 
-def check_reader(names, manner, value):
+def check_reader(names, manner, value, most=MOST_STATES):
     """Raise BadReader if the value is no reader of so many names by a manner."""
-    part = wrong_part(names, manner, value)
+    part = wrong_part(names, manner, value, most)
     if part is not None:
         raise BadReader(part)
 
 
-def check_reading(question, manner, reader):
-    """Raise the error of the first of these arguments that is wrong."""
+def check_reading(question, manner, reader, most=MOST_STATES):
+    """Raise the error of the first of these arguments that is wrong; the reader has at most so many states."""
     check_question(question)
     check_manner(manner)
-    check_reader(names_of(question), manner, reader)
+    check_reader(names_of(question), manner, reader, most)
 
 
 def behind_closing(manner, reader, state, name):
@@ -76,10 +76,8 @@ def behind_closing(manner, reader, state, name):
     return nexts[name] if manner == NAMED else nexts[0]
 
 
-def reading(question, manner, reader, row):
-    """The answers that a reader gives along a row, opening by opening."""
-    check_reading(question, manner, reader)
-    check_row(names_of(question), row)
+def given_along(manner, reader, row):
+    """The answers that a reader gives along a row that has been checked, opening by opening."""
     opens = reader[0]
     state = 0
     pile = []
@@ -92,3 +90,10 @@ def reading(question, manner, reader, row):
             state, told = opens[state][tag]
             given.append(told)
     return tuple(given)
+
+
+def reading(question, manner, reader, row):
+    """The answers that a reader gives along a row, opening by opening."""
+    check_reading(question, manner, reader)
+    check_row(names_of(question), row)
+    return given_along(manner, reader, row)

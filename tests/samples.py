@@ -24,6 +24,49 @@ LATE = (
     ((5, 4, 1), (2, 2, 4), (3, 4, 3), (3, 1, 0), (4, 4, 4), (3, 0, 2)),
 )
 
+# A 1 is first due at a mark of name 1 below one of name 0; at the second of marks within one another; at the sixth.
+TWO = (((1, 0), (1, 2), (2, 2)), (0, 0, 1))
+SECOND = (((1,), (2,), (2,)), (0, 0, 1))
+SIXTH = (((1,), (2,), (3,), (4,), (5,), (0,)), (1, 0, 0, 0, 0, 0))
+# A reader that rings rightly for SECOND, by either manner.
+BELL = ((((1, 0),), ((1, 1),)), ((0,), (0,)))
+
+# Readers by "named" that answer 1, where it is never due, at the last of 2000, 2001 and 25460 tags, but of no fewer.
+RINGS_BEHIND_2000 = (
+    (
+        ((1, 0), (7, 0), (4, 0)), ((4, 0), (3, 0), (4, 0)), ((1, 0), (6, 0), (4, 0)), ((1, 0), (2, 0), (4, 0)),
+        ((4, 0), (4, 0), (4, 0)), ((6, 0), (3, 0), (0, 1)), ((1, 0), (6, 0), (7, 0)), ((4, 0), (4, 0), (8, 0)),
+        ((4, 0), (2, 0), (9, 0)), ((4, 0), (2, 0), (10, 0)), ((10, 0), (0, 0), (4, 0)),
+    ),
+    (
+        (6, 4, 4), (4, 2, 0), (3, 4, 3), (0, 1, 4), (4, 4, 4), (5, 4, 1), (0, 2, 7), (9, 0, 6), (7, 9, 7),
+        (10, 8, 3), (3, 5, 4),
+    ),
+)
+RINGS_BEHIND_2001 = (
+    (
+        ((1, 0), (7, 0), (1, 0)), ((4, 0), (3, 0), (4, 0)), ((1, 0), (6, 0), (4, 0)), ((4, 0), (2, 0), (4, 0)),
+        ((4, 0), (4, 0), (4, 0)), ((0, 0), (3, 0), (4, 1)), ((4, 0), (1, 0), (7, 0)), ((1, 0), (2, 0), (8, 0)),
+        ((9, 0), (7, 0), (9, 0)), ((3, 0), (10, 0), (4, 0)), ((6, 0), (8, 0), (2, 0)),
+    ),
+    (
+        (6, 4, 4), (4, 2, 4), (3, 4, 3), (0, 1, 0), (4, 4, 4), (7, 9, 4), (2, 4, 7), (9, 4, 4), (10, 2, 7),
+        (1, 6, 8), (5, 4, 4),
+    ),
+)
+RINGS_BEHIND_25460 = (
+    (
+        ((4, 0), (2, 0), (9, 0)), ((4, 0), (8, 0), (4, 0)), ((1, 0), (10, 0), (4, 0)), ((4, 0), (7, 0), (1, 0)),
+        ((4, 0), (4, 0), (4, 0)), ((5, 0), (7, 0), (13, 1)), ((11, 0), (0, 0), (4, 0)), ((4, 0), (2, 0), (1, 0)),
+        ((3, 0), (4, 0), (4, 0)), ((4, 0), (11, 0), (12, 0)), ((4, 0), (11, 0), (0, 0)), ((6, 0), (7, 0), (9, 0)),
+        ((4, 0), (13, 0), (1, 0)), ((13, 0), (7, 0), (10, 0)),
+    ),
+    (
+        (7, 4, 4), (4, 2, 4), (3, 4, 3), (4, 1, 0), (4, 4, 4), (11, 7, 11), (11, 7, 9), (8, 4, 0), (12, 4, 7),
+        (13, 4, 4), (7, 4, 11), (6, 4, 2), (10, 3, 4), (9, 12, 5),
+    ),
+)
+
 # None of these is a tuple; an integer, True and False stand among them.
 NO_TUPLES = (
     None, True, False, 0, 1, -1, 2, 10 ** 30, "", "a", "named", "question",
@@ -164,8 +207,8 @@ def forest_values(names):
     return values + [doubled]
 
 
-def reader_values(ways):
-    """Pairs of a value that is no reader of two names, with so many ways at a closing, and its part."""
+def reader_values(ways, most=6):
+    """Pairs of a value that is no reader of two names, so many ways to close and states at most, and its part."""
     opens = (((0, 0), (1, 1)), ((1, 1), (0, 0)))
     closes = ((0,) * ways, (1,) * ways)
     pairs = [(value, "reader") for value in NO_TUPLES]
@@ -178,7 +221,7 @@ def reader_values(ways):
     pairs += [(((opens[0], ((0, 0), (0, value))), closes), "opens") for value in NO_NUMBERS + (2,)]
     pairs += [
         (((), ()), "opens"),
-        ((opens[:1] * 7, closes[:1] * 7), "opens"),
+        ((opens + opens[:1] * (most - 1), closes + closes[:1] * (most - 1)), "opens"),
         ((((((0, 0),)),), ((0,) * ways,)), "opens"),
         (((((0, 0),),), ((0,) * ways,)), "opens"),
         (((((0, 0),) * 3,), ((0,) * ways,)), "opens"),

@@ -18,17 +18,17 @@ def told(question, way, paths):
     return tuple(question[1][walked(question, 0, way + path)] for path in paths)
 
 
-def least_by_trying(question):
-    """The least question, and its numbers of lots, by what is answered to all short paths."""
-    names, states = len(question[0][0]), len(question[0])
+def least_by_trying(question, tell=told, more=0):
+    """The least question, and its numbers of lots, by what is told of all short paths, with so many states more."""
+    names, states = len(question[0][0]), len(question[0]) + more
     paths = paths_to(names, states)
     ways, tellings = [], []
     for way in paths_to(names, states - 1):
-        if told(question, way, paths) not in tellings:
+        if tell(question, way, paths) not in tellings:
             ways.append(way)
-            tellings.append(told(question, way, paths))
+            tellings.append(tell(question, way, paths))
     steps = tuple(
-        tuple(tellings.index(told(question, way + (name,), paths)) for name in range(names)) for way in ways
+        tuple(tellings.index(tell(question, way + (name,), paths)) for name in range(names)) for way in ways
     )
     belows = [telling[1:] for telling in tellings]
     firsts = sorted({belows.index(below) for below in belows})

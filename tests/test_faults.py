@@ -177,7 +177,7 @@ class LongRows(unittest.TestCase):
     def test_too_many_tags(self):
         row = fault(ZERO, "named", LATE)
         for most in (1, 40, 92):
-            with mock.patch("markspass.faults.MOST_LENGTH", most):
+            with mock.patch("markspass.searches.MOST_LENGTH", most):
                 self.assertIs(is_right(ZERO, "named", LATE), False)
                 with self.assertRaises(TooMany) as caught:
                     fault(ZERO, "named", LATE)
@@ -188,14 +188,14 @@ class LongRows(unittest.TestCase):
 
     def test_just_as_many_tags_as_may_be(self):
         for most in (93, 94, 2000):
-            with mock.patch("markspass.faults.MOST_LENGTH", most):
+            with mock.patch("markspass.searches.MOST_LENGTH", most):
                 row = fault(ZERO, "named", LATE)
                 self.assertEqual(len(row), 93)
                 self.assertIs(shows_fault(ZERO, "named", LATE, row), True)
                 self.assertIs(shows_fault(ZERO, "named", LATE, None), False)
 
     def test_too_many_comes_after_all_others(self):
-        with mock.patch("markspass.faults.MOST_LENGTH", 40):
+        with mock.patch("markspass.searches.MOST_LENGTH", 40):
             for function, more in ((fault, ()), (shows_fault, (None,))):
                 with self.assertRaises(BadReader):
                     function(ZERO, "blind", LATE, *more)

@@ -33,7 +33,29 @@ ARGUMENTS = {
         "both": ["one", "other", "word"], "turned": ["question"], "inside": ["question", "name"],
         "renamed": ["question", "names"], "count_readable": ["states", "names"],
     },
+    "alarms": {
+        "rings": ["question", "path"], "first_ring": ["question", "row"], "can_ring": ["question", "manner"],
+        "ring_paper": ["question", "manner"], "shows_ring_paper": ["question", "manner", "value"],
+        "ring_rows": ["question", "manner", "value", "states"],
+    },
+    "ringers": {
+        "rings_right": ["question", "manner", "reader"], "ring_fault": ["question", "manner", "reader"],
+        "shows_ring_fault": ["question", "manner", "reader", "value"], "ringer": ["question", "manner"],
+        "shows_ringer": ["question", "manner", "value"],
+    },
+    "texts": {
+        "write_row": ["row"], "read_row": ["names", "text"], "write_question": ["question"],
+        "read_question": ["text"], "write_reader": ["names", "manner", "reader"],
+        "read_reader": ["names", "manner", "text"],
+    },
+    "desks": {
+        "Desk": ["question", "manner", "reader"],
+    },
 }
+
+# The methods of the class, with their arguments, and its properties.
+METHODS = {"tag": ["self", "value"], "back": ["self"], "do": ["self", "line"]}
+PROPERTIES = ["row", "state", "wrong"]
 
 QUESTIONS = """\
 >>> from markspass.questions import answer, below_lots, least_question
@@ -103,6 +125,54 @@ renamed(above, (1,)), count_readable(1, 2)]
 [True, (((0, 0),), (0,)), (((0, 1), (0, 1)), (1, 0)), (((0, 0),), (1,)), (((1,), (1,)), (0, 1)), (2, 2, 2)]
 """
 
+ALARMS = """\
+>>> from markspass.alarms import can_ring, first_ring, ring_paper, ring_rows, rings, shows_ring_paper
+>>> two, deep, bell = (((1, 0), (1, 2), (2, 2)), (0, 0, 1)), (((1,), (2,), (2,)), (0, 0, 1)), \
+((((1, 0),), ((1, 1),)), ((0,), (0,)))
+>>> [can_ring(two, "named"), can_ring(deep, "blind"), rings(deep, (0, 0)), first_ring(two, (1, 0, 1)), \
+ring_paper(deep, "named"), shows_ring_paper(two, "named", ((), (0,), (0,), (1,)))]
+[False, True, True, 2, None, True]
+>>> [ring_rows(two, "named", ((), (0,), (0,), (1,)), 1)[0], \
+len(ring_rows(two, "named", ((), (0,), (0,), (1,)), 1)[1])]
+[(0, 0, -1, -1, 1), 65]
+>>> ring_rows(deep, "named", ((), (0,), (0,), (0,)), 1)
+raises BadTrap()
+"""
+
+RINGERS = """\
+>>> from markspass.ringers import ring_fault, ringer, rings_right, shows_ring_fault, shows_ringer
+>>> two, deep, bell = (((1, 0), (1, 2), (2, 2)), (0, 0, 1)), (((1,), (2,), (2,)), (0, 0, 1)), \
+((((1, 0),), ((1, 1),)), ((0,), (0,)))
+>>> [rings_right(deep, "named", bell), shows_ringer(deep, "blind", bell), \
+ring_fault(deep, "blind", ((((0, 0),),), ((0,),))), shows_ring_fault(deep, "blind", bell, (0,)), ringer(two, "blind")]
+[True, True, (0, 0), False, None]
+>>> ringer((((1,), (2,), (3,), (4,), (0,)), (0, 0, 0, 0, 1)), "named")
+raises TooMany(most=4)
+"""
+
+TEXTS = """\
+>>> from markspass.texts import read_question, read_reader, read_row, write_question, write_reader, write_row
+>>> [write_row((0, 1, -1, -1)), read_row(2, "ab))"), write_question((((0, 1), (1, 0)), (0, 1))), \
+read_question("state 0 answer 1 to 0\\n"), write_reader(1, "blind", ((((0, 1),),), ((0,),))), \
+read_reader(1, "named", "state 0 opens 0/1 closes 0\\n")]
+['ab))', (0, 1, -1, -1), 'state 0 answer 0 to 0 1\\nstate 1 answer 1 to 1 0\\n', (((0,),), (1,)), \
+'state 0 opens 0/1 closes 0\\n', ((((0, 1),),), ((0,),))]
+>>> read_row(1, "a))")
+raises BadText(place=2)
+>>> read_question("state 0 answer 0 to 1\\n")
+raises BadLine(line=0)
+"""
+
+DESKS = """\
+>>> from markspass.desks import Desk
+>>> desk = Desk((((0, 1), (1, 1)), (0, 1)), "named", ((((0, 0), (0, 1)),), ((0, 0),)))
+>>> [desk.tag(1), desk.tag(0), desk.wrong, desk.row, desk.state, desk.tag(-1), desk.do("b"), desk.do("row"), \
+desk.back(), desk.row]
+[(1, 1), (1, 0), (1,), (1, 0), 0, None, '1 1', 'ba)b', None, (1, 0, -1)]
+>>> desk.tag(2)
+raises BadStep()
+"""
+
 
 def shown(line, names):
     """What an example's line shows: its value, or the error that it raises; None for a statement."""
@@ -126,8 +196,15 @@ class Interface(unittest.TestCase):
                     self.assertEqual(function.__module__, f"markspass.{file}")
                     self.assertEqual(list(inspect.signature(function).parameters), arguments)
 
+    def test_methods_and_properties(self):
+        made = importlib.import_module("markspass.desks").Desk
+        for name, arguments in METHODS.items():
+            self.assertEqual(list(inspect.signature(vars(made)[name]).parameters), arguments)
+        for name in PROPERTIES:
+            self.assertIsInstance(vars(made)[name], property)
+
     def test_examples(self):
-        for text in (QUESTIONS, ROWS, READERS, FAULTS, MEETINGS, TRAPS, JOINS):
+        for text in (QUESTIONS, ROWS, READERS, FAULTS, MEETINGS, TRAPS, JOINS, ALARMS, RINGERS, TEXTS, DESKS):
             names = {}
             lines = text.splitlines()
             for place, line in enumerate(lines):
